@@ -7,6 +7,7 @@ import (
 
 	"berth/api"
 	"berth/bitset"
+	"berth/compare"
 	"berth/labels"
 )
 
@@ -55,7 +56,7 @@ func (d *Domains) Tally(key string, pods *bitset.Set) iter.Seq2[string, int] {
 
 // Ranked: the nodes in a domain whose number of these pods stands so to n.
 func (d *Domains) Ranked(key string, pods *bitset.Set, cmp api.Cmp, n int) *bitset.Set {
-	return d.nodesWhere(key, func(a area) bool { return stands(a.among(pods), cmp, n) })
+	return d.nodesWhere(key, func(a area) bool { return compare.Stands(a.among(pods), cmp, n) })
 }
 
 // Same: do both hold the same nodes and pods?
@@ -110,23 +111,4 @@ func (a area) among(pods *bitset.Set) int {
 	these := a.pods.Clone()
 	these.AndWith(pods)
 	return these.Count()
-}
-
-// stands: does a count stand so to n?
-func stands(count int, cmp api.Cmp, n int) bool {
-	switch cmp {
-	case api.CmpEq:
-		return count == n
-	case api.CmpNe:
-		return count != n
-	case api.CmpLt:
-		return count < n
-	case api.CmpLe:
-		return count <= n
-	case api.CmpGt:
-		return count > n
-	case api.CmpGe:
-		return count >= n
-	}
-	return false
 }
