@@ -133,12 +133,12 @@ func (x *Index) With(topo string, slot int, key, value string) (int, bool) {
 	return domains.Count(topo, in, key, value), true
 }
 
-// kept is what is kept, also of a nil index, whose parts are all zero and are read as empty ones.
-func (x *Index) kept() Index {
+// kept is the index itself, or one without rows in the place of a nil one, so that the bitmaps have the same universes.
+func (x *Index) kept() *Index {
 	if x == nil {
-		return Index{}
+		return New()
 	}
-	return *x
+	return x
 }
 
 // side is what is kept of the rows of a side; of one that has no rows it is the zero side.

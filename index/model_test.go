@@ -312,7 +312,7 @@ func (l look) is(of api.Side, got *bitset.Set, want []int, call string, args ...
 		l.t.Fatalf("%s: %s%v: nil", l.when, call, args)
 	}
 	size := map[api.Side]int{api.OfNode: api.MaxNodes, api.OfIt: api.MaxPods}[of]
-	if l.x != nil && size > 0 && got.Size() != size {
+	if size > 0 && got.Size() != size {
 		l.t.Fatalf("%s: %s%v: a universe of %d, want %d", l.when, call, args, got.Size(), size)
 	}
 	if !slices.Equal(got.Members(), want) {
