@@ -51,7 +51,7 @@ func TestEveryShortList(t *testing.T) {
 	grow(nil, 3)
 }
 
-// P13.1 to P13.4: every list of up to seven parts of which only the last may bar: each next part with every list of kids there may be; no two of the valid ones have one text.
+// P13.1 to P13.4: lists of up to seven parts of which only the last may bar: the first four with every list of up to three kids, the fifth of up to two, the others with the kids that postorder asks for alone; no two of the valid ones have one text.
 func TestEveryListThatGrows(t *testing.T) {
 	trees := map[string]api.Tree{}
 	few := []api.Part{{Kind: api.KTrue}, {Kind: api.KNot}, {Kind: api.KAnd}, {Kind: api.KOr}, {Kind: api.KIn, Num: 1}, {Kind: api.KText, Text: "a"}, {Kind: api.KSet}, {Kind: api.KCount}}
