@@ -64,7 +64,7 @@ func TestTheFirstError(t *testing.T) {
 	refused(t, rooted(len(both), both...), api.ErrDag)
 }
 
-// P19.1: the dags with the most constants and with the longest code that there are: none comes near MaxPool or MaxCode.
+// P19.1: the dags with the most constants and with the longest code that there are: none reaches MaxPool or MaxCode.
 func TestMostConstantsAndInstructions(t *testing.T) {
 	pair := func(i int) (api.Term, api.Term) {
 		return numTerm(api.OfPod, fmt.Sprint("k", i)), numTerm(api.OfPod, fmt.Sprint("m", i))
