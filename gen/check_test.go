@@ -5,6 +5,7 @@ import (
 	"testing"
 
 	"berth/api"
+	"berth/audit"
 	"berth/gen"
 	"berth/share"
 )
@@ -51,6 +52,9 @@ func try(t *testing.T, d api.Dag) (api.Program, api.Errno) {
 	fault, stacks := audited(got)
 	if fault != "" {
 		t.Fatalf("Gen of %s\n= %s: refused: %s", short(toldDag(d)), short(told(got)), fault)
+	}
+	if shape, err := audit.Program(got); err != nil || shape != (api.Shape{Depth: got.Depth, Steps: len(got.Code)}) {
+		t.Fatalf("Gen of %s\n= %s: audit: %v, %v", short(toldDag(d)), short(told(got)), shape, err)
 	}
 	tight(t, got, stacks)
 	named(t, got)
